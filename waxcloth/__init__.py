@@ -1,0 +1,1 @@
+"""Waxcloth: wax, dips and boilings on cloth."""
