@@ -1,7 +1,11 @@
-"""Bolts for the tests, drawn the same in each run, and the document's words on them, said once more by sets."""
+"""Bolts and deeds for the tests, drawn the same in each run, and the document's words on them, said once more."""
 
+import copy
 import itertools
 import random
+import re
+
+from waxcloth import errors
 
 
 def bolt_of(size, lacks, wax=(), stain=0, by=1):
@@ -134,3 +138,171 @@ def fewest_boilings(bolt):
             todo.extend([(wax, dyes - {dye}) for dye in dyes if cells - wax == lacks[dye]])
         states = {(frozenset(), dyes) for wax, dyes in seen}
         boiled += 1
+
+
+class Said:
+    """How all stands behind a row of deeds by the document's words: cells changed in place, with their dips."""
+
+    def __init__(self, pots):
+        self.fresh = [True] * pots
+        self.cloths = {}
+        self.many = 0
+
+    def refusals(self, deed):
+        """The refusals of the deed in the order in which they go, each with a question whether it holds."""
+        word, *parts = deed
+        cloths, pots = self.cloths, len(self.fresh)
+
+        def no_cloth(names):
+            return (errors.NoCloth, lambda: any(name not in cloths for name in names))
+
+        def new(name):
+            return [
+                (errors.NoName, lambda: not re.fullmatch("[a-z]{1,8}", name)),
+                (errors.Taken, lambda: name in cloths),
+            ]
+
+        def no_cell(name, cells):
+            return (errors.NoCell, lambda: any(at not in range(len(cloths[name])) for at in cells))
+
+        def twice(things):
+            return (errors.Twice, lambda: any(things.count(thing) > 1 for thing in things))
+
+        def no_dye(dye):
+            return (errors.NoDye, lambda: dye not in range(pots))
+
+        def too_deep(names, dye):
+            cells = [cell for name in names for cell in cloths.get(name, [])]
+            return (errors.TooDeep, lambda: any(not cell["wax"] and len(cell["dips"][dye]) == 9 for cell in cells))
+
+        if word == "hang":
+            return new(parts[0]) + [(errors.BadSize, lambda: parts[1] not in range(41))]
+        if word == "fold":
+            return [no_cloth(parts)]
+        if word == "twin":
+            return [no_cloth(parts[:1])] + new(parts[1])
+        if word == "wish":
+            bad = (errors.BadWish, lambda: len(parts[2]) != pots or any(shade not in range(10) for shade in parts[2]))
+            return [no_cloth(parts[:1]), no_cell(parts[0], [parts[1]]), bad]
+        if word == "wax":
+            return [no_cloth(parts[:1]), no_cell(*parts), twice(parts[1])]
+        if word == "dip":
+            spent = (errors.Spent, lambda: not self.fresh[parts[1]])
+            return [no_dye(parts[1]), spent, no_cloth(parts[0]), twice(parts[0]), too_deep(*parts)]
+        if word == "boil":
+            return [no_cloth(parts[0]), twice(parts[0])]
+        return [no_dye(parts[0]), (errors.StillFresh, lambda: self.fresh[parts[0]])]
+
+    def refusal(self, deed):
+        """The refusal of the deed, or None."""
+        for error, holds in self.refusals(deed):
+            if holds():
+                return error
+        return None
+
+    def do(self, deed):
+        """Do a deed that is not refused."""
+        word, *parts = deed
+        if word == "hang":
+            pots = len(self.fresh)
+            self.cloths[parts[0]] = [
+                {"wax": False, "wish": (0,) * pots, "dips": [[] for dye in range(pots)]} for at in range(parts[1])
+            ]
+        elif word == "fold":
+            del self.cloths[parts[0]]
+        elif word == "twin":
+            self.cloths[parts[1]] = copy.deepcopy(self.cloths[parts[0]])
+        elif word == "wish":
+            self.cloths[parts[0]][parts[1]]["wish"] = parts[2]
+        elif word == "wax":
+            for at in parts[1]:
+                self.cloths[parts[0]][at]["wax"] = True
+        elif word == "boil":
+            for name in parts[0]:
+                for cell in self.cloths[name]:
+                    cell["wax"] = False
+        elif word == "brew":
+            self.fresh[parts[0]] = True
+        else:
+            self.fresh[parts[1]] = False
+            for name in parts[0]:
+                for cell in self.cloths[name]:
+                    if not cell["wax"]:
+                        cell["dips"][parts[1]].append(self.many)
+        self.many += 1
+
+    def bolts(self):
+        """The cloths' bolts by names."""
+        return {
+            name: [(tuple([len(dips) for dips in cell["dips"]]), cell["wax"], cell["wish"]) for cell in cells]
+            for name, cells in self.cloths.items()
+        }
+
+
+def said_behind(pots, deeds):
+    """How all stands behind these deeds."""
+    said = Said(pots)
+    for deed in deeds:
+        said.do(deed)
+    return said
+
+
+def drawn_cells(rng, size):
+    """Cells for wax: mostly good ones, in any order."""
+    cells = [rng.randrange(size) for at in range(rng.randrange(4))] if size else []
+    if rng.random() < 0.8:
+        cells = sorted(set(cells), key=lambda at: rng.random())
+    if rng.random() < 0.1:
+        cells.insert(rng.randrange(len(cells) + 1), rng.choice([-1, size, size + 1, 999999]))
+    return tuple(cells)
+
+
+def drawn_names(rng, said):
+    """Names of cloths: mostly ones that hang, each once."""
+    names = [name for name in said.cloths if rng.random() < 0.6]
+    rng.shuffle(names)
+    if rng.random() < 0.1:
+        names.insert(rng.randrange(len(names) + 1), rng.choice(["a", "b", "none", "", "Sail", "sail "]))
+    return tuple(names)
+
+
+def drawn_name(rng, said):
+    """A cloth's name: mostly one that hangs."""
+    if said.cloths and rng.random() < 0.9:
+        return rng.choice(sorted(said.cloths))
+    return rng.choice(["a", "b", "none", "", "Sail"])
+
+
+def drawn_new(rng):
+    return rng.choice(["a", "b", "c", "d", "sail", "abcdefgh", "a", "b", "c", "", "Sail", "abcdefghi", "a1"])
+
+
+def drawn_deed(rng, said):
+    """A deed for a house that stands so, of any word, often one that is refused."""
+    pots = len(said.fresh)
+    word = rng.choice(["hang", "fold", "twin", "wish", "wish", "wish", "wax", "wax", "dip", "dip", "boil", "brew"])
+    if not said.cloths and rng.random() < 0.7:
+        word = "hang"
+    dye = rng.randrange(pots) if pots and rng.random() < 0.95 else rng.choice([-1, pots, pots + 1])
+    if word == "hang":
+        return (word, drawn_new(rng), rng.choice([0, 1, 2, 3, 3, 4, 5, 40, 41, -1]))
+    if word == "dip":
+        return (word, drawn_names(rng, said), dye)
+    if word == "boil":
+        return (word, drawn_names(rng, said))
+    if word == "brew":
+        return (word, dye)
+    name = drawn_name(rng, said)
+    size = len(said.cloths.get(name, []))
+    if word == "fold":
+        return (word, name)
+    if word == "twin":
+        return (word, name, drawn_new(rng))
+    if word == "wax":
+        return (word, name, drawn_cells(rng, size))
+    at = rng.randrange(size) if size and rng.random() < 0.9 else rng.choice([-1, size, size + 1])
+    many = pots if rng.random() < 0.9 else pots + rng.choice([-1, 1])
+    shades = [rng.choice([0, 0, 1, 1, 2, 9]) for dye in range(many)]
+    if shades and rng.random() < 0.05:
+        shades[rng.randrange(len(shades))] = rng.choice([-1, 10])
+    return (word, name, at, tuple(shades))

@@ -29,6 +29,15 @@ METHODS = [
     "pop", "remove", "replace", "reverse", "rfind", "rjust", "rpartition", "rsplit", "rstrip", "setdefault", "split",
     "splitlines", "startswith", "strip", "update", "upper", "values", "zfill", "bit_length", "add", "discard", "sort",
 ]
+# Values of objects must not bear these names (L26); methods may be called like those of L25 alone.
+NO_VALUES = [
+    "items", "keys", "values", "pop", "update", "append", "clear", "extend", "insert", "remove", "reverse",
+    "setdefault", "sort", "args", "encode", "decode", "hex", "fromhex", "format",
+]
+STATEMENTS = (
+    ast.Assign, ast.AugAssign, ast.AnnAssign, ast.If, ast.While, ast.For, ast.Return, ast.Break, ast.Continue,
+    ast.Pass, ast.Raise, ast.Try, ast.Expr, ast.Assert, ast.Delete, ast.FunctionDef, ast.ClassDef, ast.ImportFrom,
+)
 WALKED_AT_ONCE = ["zip", "enumerate", "reversed", "range"]
 WALKERS = ["list", "tuple", "dict", "sorted", "sum", "any", "all", "enumerate", "zip", "min", "max", "len"]
 
@@ -60,6 +69,26 @@ def bound_names(node):
     if isinstance(node, (ast.Import, ast.ImportFrom)):
         return [name.asname or name.name for name in node.names]
     return []
+
+
+def own_methods():
+    """The names of all methods of the package's classes."""
+    classes = [node for name, node in nodes() if isinstance(node, ast.ClassDef)]
+    return {part.name for node in classes for part in node.body if isinstance(part, ast.FunctionDef)}
+
+
+def own_values():
+    """The names of all values that objects are given."""
+    return {node.attr for name, node in nodes() if isinstance(node, ast.Attribute) and isinstance(node.ctx, ast.Store)}
+
+
+def is_plain_top(value, defs):
+    """Whether the value may stand at a file's top: plain, or made of plain ones and of defs above."""
+    if isinstance(value, (ast.List, ast.Tuple)):
+        return all(is_plain_top(part, defs) for part in value.elts)
+    if isinstance(value, ast.Dict):
+        return all(is_plain_top(part, defs) for part in value.keys + value.values)
+    return isinstance(value, ast.Constant) or isinstance(value, ast.Name) and value.id in defs
 
 
 class Language(unittest.TestCase):
@@ -149,7 +178,7 @@ class Language(unittest.TestCase):
             self.assertEqual(len(words), len(set(words)))
 
     def test_methods_are_listed_or_the_program_s_own(self):
-        own = {node.name for name, node in nodes() if isinstance(node, ast.FunctionDef)}
+        own = own_methods()
         for name, node in nodes():
             if isinstance(node, ast.Call) and isinstance(node.func, ast.Attribute):
                 with self.subTest(f"{name} {node.func.attr}"):
@@ -173,6 +202,65 @@ class Language(unittest.TestCase):
             if called(node) in WALKED_AT_ONCE:
                 with self.subTest(f"{name} {ast.unparse(node)}"):
                     self.assertIn((name, ast.unparse(node)), at_once)
+
+    def test_classes_hold_methods_alone(self):
+        for name, node in nodes():
+            if isinstance(node, ast.ClassDef):
+                with self.subTest(f"{name} {node.name}"):
+                    self.assertLessEqual(len(node.bases), 1)
+                    self.assertEqual(node.keywords, [])
+                    others = node.body[1:]
+                    self.assertIsNotNone(ast.get_docstring(node))
+                    self.assertTrue(all(isinstance(part, ast.FunctionDef) for part in others))
+                    words = [part.name for part in others]
+                    self.assertEqual(len(words), len(set(words)))
+
+    def test_methods_and_values_bear_unlike_names(self):
+        methods, values = own_methods(), own_values()
+        self.assertEqual(sorted(methods & values), [])
+        self.assertEqual(sorted(values & set(NO_VALUES)), [])
+        python_s = {word for kind in (str, int, list, dict, set, bytes, tuple) for word in dir(kind)}
+        self.assertEqual(sorted(methods & python_s - set(METHODS) - {"__init__"}), [])
+        parts = nodes()
+        called_here = [node.func for name, node in parts if isinstance(node, ast.Call)]
+        for name, node in parts:
+            if isinstance(node, ast.Attribute) and isinstance(node.ctx, ast.Load) and node not in called_here:
+                with self.subTest(f"{name} {node.attr}"):
+                    self.assertIn(node.attr, values)
+
+    def test_statements(self):
+        for name, node in nodes():
+            if isinstance(node, ast.stmt):
+                with self.subTest(f"{name} {node.lineno}"):
+                    self.assertIsInstance(node, STATEMENTS)
+            if isinstance(node, ast.Expr):
+                self.assertIsInstance(node.value, (ast.Call, ast.Constant))
+            if isinstance(node, ast.Raise) and node.exc is not None:
+                self.assertIsNotNone(called(node.exc))
+
+    def test_what_a_file_s_top_is_given(self):
+        for path in sources():
+            defs = set()
+            for part in ast.parse(path.read_text()).body:
+                if isinstance(part, ast.FunctionDef):
+                    defs.add(part.name)
+                if isinstance(part, ast.Assign):
+                    with self.subTest(f"{path.name} {ast.unparse(part.targets[0])}"):
+                        self.assertTrue(is_plain_top(part.value, defs))
+
+    def test_lists_and_dicts_of_a_file_s_top_are_only_read(self):
+        for path in sources():
+            tree = ast.parse(path.read_text())
+            tops = {
+                part.targets[0].id for part in tree.body
+                if isinstance(part, ast.Assign) and isinstance(part.value, (ast.List, ast.Dict))
+            }
+            read = [node.value for node in ast.walk(tree) if isinstance(node, ast.Subscript)]
+            read += [side for node in ast.walk(tree) if isinstance(node, ast.Compare) for side in node.comparators]
+            for node in ast.walk(tree):
+                if isinstance(node, ast.Name) and isinstance(node.ctx, ast.Load) and node.id in tops:
+                    with self.subTest(f"{path.name} {node.lineno}"):
+                        self.assertIn(node, read)
 
     def test_no_two_files_draw_from_one_another(self):
         draws = {

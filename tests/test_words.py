@@ -2,7 +2,7 @@
 
 import unittest
 
-from waxcloth.words import is_name, plain_number
+from waxcloth.words import is_name, plain_number, plain_shades, shades_shown
 
 SIGNS = [chr(code) for code in range(32, 127)] + ["\n"]
 SMALL = "abcdefghijklmnopqrstuvwxyz"
@@ -70,6 +70,34 @@ class Numbers(unittest.TestCase):
                 for text in [sign + "12", "1" + sign + "2", "12" + sign]:
                     with self.subTest(text):
                         self.assertIsNone(plain_number(text))
+
+
+class Shades(unittest.TestCase):
+    def test_none(self):
+        self.assertEqual(shades_shown(()), "-")
+        self.assertEqual(plain_shades("-"), ())
+
+    def test_one_to_twelve(self):
+        for many in range(1, 13):
+            shades = tuple([(7 * at + many) % 10 for at in range(many)])
+            text = "".join([FIGURES[shade] for shade in shades])
+            self.assertEqual(shades_shown(shades), text)
+            told = plain_shades(text)
+            self.assertEqual(told, shades)
+            self.assertIs(type(told), tuple)
+            self.assertEqual([type(shade) for shade in told], [int] * many)
+
+    def test_not_so(self):
+        for text in [
+            "", "0" * 13, "9" * 5000, "--", "-1", "1-", "+1", " 1", "1 ", "1 2", "1\n", "1_2", "1a", "*", "\u0661",
+        ]:
+            with self.subTest(text[:14]):
+                self.assertIsNone(plain_shades(text))
+
+    def test_each_sign_by_itself(self):
+        for sign in SIGNS:
+            with self.subTest(sign):
+                self.assertEqual(plain_shades(sign), (int(sign),) if sign in FIGURES else () if sign == "-" else None)
 
 
 if __name__ == "__main__":
