@@ -6,6 +6,7 @@ import random
 import re
 
 from waxcloth import errors
+from waxcloth.house import House
 
 
 def bolt_of(size, lacks, wax=(), stain=0, by=1):
@@ -306,3 +307,60 @@ def drawn_deed(rng, said):
     if shades and rng.random() < 0.05:
         shades[rng.randrange(len(shades))] = rng.choice([-1, 10])
     return (word, name, at, tuple(shades))
+
+
+def all_told(house):
+    """All that a house tells of itself."""
+    names = house.names()
+    return {
+        "names": names,
+        "ready": house.ready(),
+        "book": house.book(),
+        "ahead": house.ahead(),
+        "marks": house.marks(),
+        "stains": [house.stains(name) for name in names],
+        "wishes": [house.wishes(name) for name in names],
+        "waxed": [house.waxed(name) for name in names],
+        "bolt": house.bolt(names),
+        "hindered": house.hindered(names),
+        "boilings": house.boilings(names),
+        "held": house.held(names),
+    }
+
+
+def how_it_stands(house):
+    """All that a house tells, but for what can be done again and its marks."""
+    return {word: told for word, told in all_told(house).items() if word not in ("ahead", "marks")}
+
+
+def anew(pots, deeds):
+    """A new house in which these deeds are done."""
+    house = House(pots)
+    for deed in deeds:
+        house.do(deed)
+    return house
+
+
+def deeds_for(bolts, fresh, stirred=()):
+    """Deeds that hang these bolts by their names, with just these pots fresh; `stirred` names hang beside them.
+
+    Each shade is given by a dip of its own, under wax on all cells that it is not for.
+    """
+    deeds = [("hang", name, 1) for name in stirred]
+    for name, bolt in bolts.items():
+        deeds.append(("hang", name, len(bolt)))
+        for dye in range(len(fresh)):
+            for shade in range(1, 10):
+                kept = tuple([at for at, cell in enumerate(bolt) if cell[0][dye] < shade])
+                if len(kept) < len(bolt):
+                    deeds += [("wax", name, kept), ("dip", (name,), dye), ("boil", (name,)), ("brew", dye)]
+        deeds += [("wish", name, at, cell[2]) for at, cell in enumerate(bolt)]
+        deeds.append(("wax", name, tuple([at for at, cell in enumerate(bolt) if cell[1]])))
+    return deeds + [("dip", (), dye) for dye, is_fresh in enumerate(fresh) if not is_fresh]
+
+
+def parted(rng, bolt, names):
+    """The bolt cut into as many bolts as names, some of which may be empty."""
+    cuts = sorted([rng.randrange(len(bolt) + 1) for name in names[1:]])
+    ends = list(zip([0] + cuts, cuts + [len(bolt)]))
+    return {name: bolt[first:last] for name, (first, last) in zip(names, ends)}

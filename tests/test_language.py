@@ -198,6 +198,9 @@ class Language(unittest.TestCase):
                 at_once.add((name, ast.unparse(node.iter)))
             if called(node) in WALKERS:
                 at_once.update([(name, ast.unparse(thing)) for thing in node.args])
+            # This one is named in L23: it may stand where reversed(..) may.
+            if called(node) == "reversed" and called(node.args[0]) == "range":
+                at_once.add((name, ast.unparse(node.args[0])))
         for name, node in nodes():
             if called(node) in WALKED_AT_ONCE:
                 with self.subTest(f"{name} {ast.unparse(node)}"):
